@@ -1,0 +1,1 @@
+"""Bothreaders: files for two readers, and how they are washed."""

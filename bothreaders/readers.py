@@ -1,0 +1,114 @@
+"""Reading and writing one file."""
+
+from bothreaders.errors import InvalidContent, Refused
+from bothreaders.formats import are_signs, check_file, check_format, is_sign
+from bothreaders.steps import BASE, HEAD, MOST, WIDTH
+from bothreaders.steps import end_tag, ends_well, looks, stands_along, use_of
+
+# The words of a refusal, by the name of the stand. At the other stands no
+# sign is refused.
+REFUSALS = {"head": "head", "tag": "tag", "length": "length", "second": "length", "sum": "check", "over": "behind"}
+
+TOLD_USES = ("keep", "check")
+
+
+def read(form, file):
+    """Return the content of a file; raise Refused if it is not read."""
+    return told_along(form, file, _along_read(form, file))
+
+
+def refusal(form, file):
+    """Return where and why a file is not read, as (index, word), or None."""
+    check_file(form, file)
+    return refusal_along(form, stands_along(form, file))
+
+
+def looked_at(form, file):
+    """Return the ascending list of the indexes at which the reader looks."""
+    along = _along_read(form, file)
+    return [k for k in range(len(file)) if looks(form, along[k])]
+
+
+def is_content(form, value):
+    """Return whether any value is the content of some file of a format."""
+    check_format(form)
+    return isinstance(value, tuple) and all([_is_chunk(form, chunk) for chunk in value])
+
+
+def write(form, content):
+    """Return the least file with a content."""
+    if not is_content(form, content):
+        raise InvalidContent()
+    signs = [0 if mark is None else mark for mark in form[HEAD]]
+    for tag, body in content:
+        signs.extend(_chunk_signs(form, tag, body))
+    last = end_tag(form)
+    if last is not None:
+        signs.append(last)
+    return tuple(signs)
+
+
+def refusal_along(form, along):
+    """Return where and why a file with these stands is not read, or None."""
+    if along[-1] is None:
+        return (len(along) - 2, REFUSALS[along[-2][0]])
+    if not ends_well(form, along[-1]):
+        return (len(along) - 1, "short")
+    return None
+
+
+def told_along(form, file, along):
+    """Return the content of a file that is read, with these stands."""
+    ahead = 2 if form[WIDTH] == "one" else 3
+    tags = [k for k in range(len(file)) if _begins_told(along[k + 1])]
+    return tuple([(file[k], _body_at(file, along, k + ahead)) for k in tags])
+
+
+def _along_read(form, file):
+    check_file(form, file)
+    along = stands_along(form, file)
+    found = refusal_along(form, along)
+    if found is not None:
+        raise Refused(found[0], found[1])
+    return along
+
+
+def _begins_told(stand):
+    # Only a tag leads to the first sign of a length.
+    return stand[0] == "length" and stand[1] in TOLD_USES
+
+
+def _body_at(file, along, at):
+    # Behind the length 0 there comes no body.
+    if along[at][0] == "body":
+        return file[at:at + along[at][2]]
+    return ()
+
+
+def _greatest_length(form):
+    # The greatest length may be above what the width can write.
+    base = form[BASE]
+    written = base - 1 if form[WIDTH] == "one" else base * base - 1
+    return min(form[MOST], written)
+
+
+def _is_chunk(form, value):
+    if not isinstance(value, tuple) or len(value) != 2:
+        return False
+    tag, body = value
+    if not is_sign(tag, form[BASE]) or use_of(form, tag) not in TOLD_USES:
+        return False
+    return are_signs(body, form[BASE]) and len(body) <= _greatest_length(form)
+
+
+def _chunk_signs(form, tag, body):
+    check = [sum(body) % form[BASE]] if use_of(form, tag) == "check" else []
+    return [tag] + _length_signs(form, len(body)) + list(body) + check
+
+
+def _length_signs(form, length):
+    if form[WIDTH] == "one":
+        return [length]
+    high = length // form[BASE]
+    low = length % form[BASE]
+    return [high, low] if form[WIDTH] == "high" else [low, high]

@@ -1,0 +1,65 @@
+"""The interface: names, parameter names and the file of each function and class."""
+
+import ast
+import importlib
+import inspect
+import pathlib
+import unittest
+
+PACKAGE = pathlib.Path(__file__).resolve().parent.parent / "bothreaders"
+
+FUNCTIONS = {
+    "formats": {"is_format": ["value"], "is_file": ["form", "value"], "stand_behind": ["form", "beginning"],
+                "stands": ["form"]},
+    "readers": {"read": ["form", "file"], "refusal": ["form", "file"], "looked_at": ["form", "file"],
+                "is_content": ["form", "value"], "write": ["form", "content"]},
+}
+
+CLASSES = {
+    "errors": ["FileError", "InvalidFormat", "InvalidFormats", "InvalidFile", "InvalidContent", "InvalidLength",
+               "InvalidIndex", "InvalidText", "InvalidSign", "InvalidMark", "InvalidNumber", "OtherBase", "NothingToUndo",
+               "Doomed", "TooLong", "Refused", "HasCommon", "HasStubborn"],
+}
+
+
+def defined_in(name, kind):
+    tree = ast.parse((PACKAGE / f"{name}.py").read_text(encoding="utf-8"))
+    return [node.name for node in tree.body if isinstance(node, kind)]
+
+
+class InterfaceTest(unittest.TestCase):
+
+    def test_functions(self):
+        for module, functions in FUNCTIONS.items():
+            for name, parameters in functions.items():
+                with self.subTest(module=module, name=name):
+                    self.assertIn(name, defined_in(module, ast.FunctionDef))
+                    found = inspect.signature(getattr(importlib.import_module(f"bothreaders.{module}"), name))
+                    self.assertEqual(list(found.parameters), parameters)
+                    for parameter in found.parameters.values():
+                        self.assertEqual(parameter.kind, inspect.Parameter.POSITIONAL_OR_KEYWORD)
+                        self.assertIs(parameter.default, inspect.Parameter.empty)
+
+    def test_classes(self):
+        for module, classes in CLASSES.items():
+            for name in classes:
+                with self.subTest(module=module, name=name):
+                    self.assertIn(name, defined_in(module, ast.ClassDef))
+
+    def test_arguments_by_name(self):
+        from bothreaders.formats import is_file, is_format, stand_behind, stands
+        from bothreaders.readers import is_content, looked_at, read, refusal, write
+        form = (4, (2,), "one", 1, ((1, "keep"),), "refuse")
+        self.assertIs(is_format(value=form), True)
+        self.assertIs(is_file(value=(2,), form=form), True)
+        self.assertEqual(stand_behind(beginning=(2,), form=form), ("tag",))
+        self.assertEqual(stands(form=form)[0], ("body", "keep", 1, 0))
+        self.assertEqual(read(file=(2, 1, 0), form=form), ((1, ()),))
+        self.assertEqual(refusal(file=(2, 1), form=form), (2, "short"))
+        self.assertEqual(looked_at(file=(2,), form=form), [0])
+        self.assertIs(is_content(value=(), form=form), True)
+        self.assertEqual(write(content=((1, (3,)),), form=form), (2, 1, 1, 3))
+
+
+if __name__ == "__main__":
+    unittest.main()

@@ -1,0 +1,98 @@
+"""The package's files keep to LANGUAGE.md, as far as a script can see it."""
+
+import pathlib
+import re
+import unittest
+
+from tests.language import BARRED_ANYWHERE, BARRED_FILES, BARRED_WORDS, circles, file_faults
+
+PACKAGE = pathlib.Path(__file__).resolve().parent.parent / "bothreaders"
+
+# Rows that a rule forbids, with the rule: the check has to see them.
+FORBIDDEN = (
+    ("L2", "import os\n"),
+    ("L2", "from random import choice\n"),
+    ("L2", "from bothreaders.errors import *\n"),
+    ("L2", "from bothreaders.errors import FileError as Wrong\n"),
+    ("L2", "from .errors import FileError\n"),
+    ("L2", "from math import sqrt\n"),
+    ("L2", "LIMIT = 3\nfrom math import gcd\n"),
+    ("L16", "from bothreaders.errors import nothing\n"),
+    ("L3", "LOW, HIGH = 0, 1\n"),
+    ("L3", "LIMIT = len('abc')\n"),
+    ("L3", "if True:\n    LIMIT = 3\n"),
+    ("L3", "ROWS = [[1], [2]]\n"),
+    ("L15", "LIMIT = 3\nLIMIT = 4\n"),
+    ("L15", "def low():\n    return 0\n\n\ndef low():\n    return 1\n"),
+    ("L15", "def hash(value):\n    return value\n"),
+    ("L15", "def low(next):\n    return next\n"),
+    ("L15", "class Box:\n    pass\n\n\ndef low(Box):\n    return Box\n"),
+    ("L4", "def low():\n    return 0\n\n\n@low\ndef high():\n    return 1\n"),
+    ("L6", "def low(name):\n    global COUNT\n    return name\n"),
+    ("L6", "def low(rows):\n    with rows as row:\n        return row\n"),
+    ("L7", "def low(k):\n    return k / 2\n"),
+    ("L7", "def low():\n    return 0.5\n"),
+    ("L7", "def low(rows):\n    return sum(row for row in rows)\n"),
+    ("L8", "def low(rows):\n    return filter(None, rows)\n"),
+    ("L8", "def low(row):\n    print(row)\n"),
+    ("L10", "def low():\n" + "    pass\n" * 40),
+    ("L10", "\n" * 400),
+    ("L10", "# " + "-" * 119 + "\n"),
+    ("L12", "def __low():\n    return 0\n"),
+    ("L12", "def low(_):\n    return _\n"),
+    ("L14", "# a word with a tab:\t\n"),
+    ("L14", "# \u00e4\n"),
+    ("L17", "def low(row):\n    return type(row)\n"),
+    ("L17", "def open(row):\n    return row\n"),
+    ("L17", "def low(input):\n    return input\n"),
+    ("L19", "def low(wrong):\n    raise wrong\n"),
+    ("L19", "def low():\n    raise ValueError\n"),
+    ("L20", "def low(row):\n    return row is low\n"),
+    ("L23", "def low(rows):\n    for row in rows:\n        rows.append(row)\n"),
+    ("L23", "def low(rows):\n    for k in list(range(3)) + rows:\n        rows[k] = 1\n"),
+    ("L25", "def low(text):\n    return text.encode()\n"),
+    ("L27", "def low(text):\n    return text + '%'\n"),
+    ("L27", "def low(text):\n    return text + '\\t'\n"),
+    ("L27", "def low(k, n):\n    return k ** n\n"),
+    ("L27", "def low(k):\n    return 1if k else 0\n"),
+)
+
+
+def files_of_the_package():
+    return {path.stem: path.read_text(encoding="utf-8") for path in sorted(PACKAGE.glob("*.py"))}
+
+
+class LanguageTest(unittest.TestCase):
+
+    def test_the_folder_holds_files_with_plain_names_alone(self):
+        found = [path for path in PACKAGE.iterdir() if path.name != "__pycache__"]
+        self.assertIn("__init__.py", [path.name for path in found])
+        self.assertLessEqual(len(found), 100)
+        for path in found:
+            with self.subTest(path=path.name):
+                self.assertTrue(path.is_file())
+                self.assertRegex(path.name, r"\A([a-z][a-z0-9_]*|__init__)\.py\Z")
+                self.assertNotIn(path.stem, BARRED_FILES | BARRED_ANYWHERE | BARRED_WORDS)
+                self.assertIsNone(re.match(r"law_|test_", path.stem))
+
+    def test_the_files(self):
+        modules = files_of_the_package()
+        for name, text in modules.items():
+            with self.subTest(name=name):
+                self.assertEqual(file_faults(name, text, modules), [])
+
+    def test_no_two_files_import_from_each_other(self):
+        self.assertEqual(circles(files_of_the_package()), [])
+        self.assertEqual(circles({"a": "from bothreaders.b import x\n", "b": "from bothreaders.c import x\n",
+                                  "c": "from bothreaders.b import y\n"}), ["b", "c"])
+
+    def test_the_check_sees_what_is_forbidden(self):
+        modules = files_of_the_package()
+        for rule, text in FORBIDDEN:
+            with self.subTest(rule=rule, text=text):
+                found = file_faults("sample", text, modules)
+                self.assertTrue([fault for fault in found if re.search(rf"\b{rule}\b", fault)], found)
+
+
+if __name__ == "__main__":
+    unittest.main()
