@@ -1,7 +1,7 @@
 """Formats, files, and the stands of a reader."""
 
-from bothreaders.errors import InvalidFile, InvalidFormat
-from bothreaders.steps import BASE, first_stand, next_stand, stands_along
+from bothreaders.errors import InvalidFile, InvalidFormat, InvalidFormats, InvalidLength, OtherBase
+from bothreaders.steps import BASE, all_stands, stands_along
 
 WIDTHS = ("one", "high", "low")
 USES = ("keep", "check", "skip", "end", "stop")
@@ -36,17 +36,7 @@ def stand_behind(form, beginning):
 def stands(form):
     """Return the ascending list of all stands behind some beginning."""
     check_format(form)
-    found = [first_stand(form)]
-    seen = set(found)
-    at = 0
-    while at < len(found):
-        for sign in range(form[BASE]):
-            stand = next_stand(form, found[at], sign)
-            if stand is not None and stand not in seen:
-                seen.add(stand)
-                found.append(stand)
-        at += 1
-    return sorted(found)
+    return sorted(all_stands(form))
 
 
 def check_format(form):
@@ -59,6 +49,37 @@ def check_file(form, file):
     """Raise InvalidFormat or InvalidFile if a value is no format or no file of it."""
     if not is_file(form, file):
         raise InvalidFile()
+
+
+def check_formats(value):
+    """Raise InvalidFormats if a value is no non-empty list of formats of one base."""
+    if not isinstance(value, list) or not are_of_one_base(value):
+        raise InvalidFormats()
+
+
+def check_two_formats(one, other):
+    """Raise InvalidFormat if one of two values is no format."""
+    check_format(one)
+    check_format(other)
+
+
+def check_same_base(one, other):
+    """Raise OtherBase if two formats have unlike bases."""
+    if one[BASE] != other[BASE]:
+        raise OtherBase()
+
+
+def check_length(value):
+    """Raise InvalidLength if a value is no integer from 0 on."""
+    if not is_integer(value) or value < 0:
+        raise InvalidLength()
+
+
+def are_of_one_base(values):
+    """Return whether the items of a list or a tuple are formats of one base, at least one."""
+    if len(values) == 0 or not all([is_format(value) for value in values]):
+        return False
+    return all([form[BASE] == values[0][BASE] for form in values])
 
 
 def is_integer(value):

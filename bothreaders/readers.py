@@ -2,19 +2,17 @@
 
 from bothreaders.errors import InvalidContent, Refused
 from bothreaders.formats import are_signs, check_file, check_format, is_sign
-from bothreaders.steps import BASE, HEAD, MOST, WIDTH
+from bothreaders.steps import BASE, HEAD, MOST, TOLD_USES, WIDTH
 from bothreaders.steps import end_tag, ends_well, looks, stands_along, use_of
 
 # The words of a refusal, by the name of the stand. At the other stands no
 # sign is refused.
 REFUSALS = {"head": "head", "tag": "tag", "length": "length", "second": "length", "sum": "check", "over": "behind"}
 
-TOLD_USES = ("keep", "check")
-
 
 def read(form, file):
     """Return the content of a file; raise Refused if it is not read."""
-    return told_along(form, file, _along_read(form, file))
+    return told_along(form, file, along_read(form, file))
 
 
 def refusal(form, file):
@@ -25,7 +23,7 @@ def refusal(form, file):
 
 def looked_at(form, file):
     """Return the ascending list of the indexes at which the reader looks."""
-    along = _along_read(form, file)
+    along = along_read(form, file)
     return [k for k in range(len(file)) if looks(form, along[k])]
 
 
@@ -37,8 +35,7 @@ def is_content(form, value):
 
 def write(form, content):
     """Return the least file with a content."""
-    if not is_content(form, content):
-        raise InvalidContent()
+    check_content(form, content)
     signs = [0 if mark is None else mark for mark in form[HEAD]]
     for tag, body in content:
         signs.extend(_chunk_signs(form, tag, body))
@@ -46,6 +43,12 @@ def write(form, content):
     if last is not None:
         signs.append(last)
     return tuple(signs)
+
+
+def check_content(form, content):
+    """Raise InvalidFormat or InvalidContent if a value is no format or no content of it."""
+    if not is_content(form, content):
+        raise InvalidContent()
 
 
 def refusal_along(form, along):
@@ -57,20 +60,29 @@ def refusal_along(form, along):
     return None
 
 
-def told_along(form, file, along):
-    """Return the content of a file that is read, with these stands."""
-    ahead = 2 if form[WIDTH] == "one" else 3
-    tags = [k for k in range(len(file)) if _begins_told(along[k + 1])]
-    return tuple([(file[k], _body_at(file, along, k + ahead)) for k in tags])
-
-
-def _along_read(form, file):
+def along_read(form, file):
+    """Return the stands along a file; raise Refused if it is not read."""
     check_file(form, file)
     along = stands_along(form, file)
     found = refusal_along(form, along)
     if found is not None:
         raise Refused(found[0], found[1])
     return along
+
+
+def content_or_none(form, file):
+    """Return the content of a file, None if it is not read."""
+    along = stands_along(form, file)
+    if refusal_along(form, along) is not None:
+        return None
+    return told_along(form, file, along)
+
+
+def told_along(form, file, along):
+    """Return the content of a file that is read, with these stands."""
+    ahead = 2 if form[WIDTH] == "one" else 3
+    tags = [k for k in range(len(file)) if _begins_told(along[k + 1])]
+    return tuple([(file[k], _body_at(file, along, k + ahead)) for k in tags])
 
 
 def _begins_told(stand):

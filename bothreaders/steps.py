@@ -15,6 +15,12 @@ TAG = ("tag",)
 ROOM = ("room",)
 OVER = ("over",)
 
+TOLD_USES = ("keep", "check")
+
+# What a reader tells at a sign at which it tells nothing; no sign and no tag
+# is told by this number.
+NOTHING = -1
+
 
 def first_stand(form):
     """Return the stand at the beginning of a file."""
@@ -130,6 +136,28 @@ def ends_well(form, stand):
     return stand == ROOM or stand == OVER
 
 
+def told_part(form, stand, sign):
+    """Return the number by which a reader tells a sign that it does not refuse.
+
+    A sign of a body is told by itself, a tag by a number from base on. So the
+    parts of two contents are the same just if the contents are.
+    """
+    if stand == TAG and use_of(form, sign) in TOLD_USES:
+        return form[BASE] + sign
+    if stand[0] == "body" and stand[1] in TOLD_USES:
+        return sign
+    return NOTHING
+
+
+def parts_of(form, content):
+    """Return the list of the parts of a content, as a reader tells them."""
+    parts = []
+    for tag, body in content:
+        parts.append(form[BASE] + tag)
+        parts.extend(body)
+    return parts
+
+
 def looks(form, stand):
     """Return whether the reader looks at the sign that comes at a stand."""
     if stand[0] == "head":
@@ -137,6 +165,21 @@ def looks(form, stand):
     if stand[0] == "body":
         return stand[1] != "skip"
     return stand != ROOM
+
+
+def all_stands(form):
+    """Return the list of all stands behind some beginning, the first stand first."""
+    found = [first_stand(form)]
+    seen = set(found)
+    at = 0
+    while at < len(found):
+        for sign in range(form[BASE]):
+            stand = next_stand(form, found[at], sign)
+            if stand is not None and stand not in seen:
+                seen.add(stand)
+                found.append(stand)
+        at += 1
+    return found
 
 
 def stands_along(form, file):

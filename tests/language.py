@@ -12,6 +12,8 @@ import re
 import tokenize
 import warnings
 
+from tests.language_calls import call_faults
+
 LONGEST_FUNCTION = 40
 LONGEST_FILE = 399
 LONGEST_LINE = 120
@@ -21,7 +23,7 @@ NODES = (
     ast.AugAssign, ast.If, ast.While, ast.For, ast.Break, ast.Continue, ast.Pass, ast.Raise, ast.Expr, ast.Call,
     ast.keyword, ast.Name, ast.Attribute, ast.Subscript, ast.Slice, ast.Tuple, ast.List, ast.Dict, ast.ListComp,
     ast.DictComp, ast.comprehension, ast.Constant, ast.BoolOp, ast.BinOp, ast.UnaryOp, ast.Compare, ast.IfExp,
-    ast.expr_context, ast.boolop, ast.operator, ast.unaryop, ast.cmpop,
+    ast.expr_context, ast.boolop, ast.operator, ast.unaryop, ast.cmpop, ast.Starred,
 )
 LIBRARY = {
     "heapq": {"heappush", "heappop", "heapify", "heapreplace", "heappushpop"},
@@ -72,6 +74,7 @@ def file_faults(path, text, modules):
     found += token_faults(text)
     found += node_faults(tree)
     found += module_faults(tree, modules)
+    found += call_faults(tree, modules)
     found += name_faults(tree)
     return found
 

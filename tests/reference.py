@@ -1,8 +1,10 @@
-"""Formats for the tests, and a second reader that is written in another way.
+"""Formats for the tests, and a second reckoning that is written in another way.
 
-The program goes from stand to stand by single signs. This reader takes a file
-chunk by chunk, and it asks for lengths by looking through all that can be
-written, so that a fault of the one is hardly a fault of the other, too.
+The program goes from stand to stand by single signs. The reader here takes a
+file chunk by chunk, and it asks for lengths by looking through all that can be
+written, so that a fault of the one is hardly a fault of the other, too. What
+the program finds by going through stands, is found here by trying all files,
+all contents or all variations.
 """
 
 import itertools
@@ -42,6 +44,17 @@ class Sulking:
 
     def __bool__(self):
         raise RuntimeError("tested")
+
+
+# Values that are no format, and values that are no file of a format of base 4.
+WRONG_FORMATS = ODD_VALUES + ((), A[:5], A + (0,), list(A), (A,), Sulking())
+WRONG_FILES = ([], [1], (4,), (-1,), (0, True), (False,), (None,), (1.0,), "", b"", None, 0, {}, range(1), ((),), Sulking())
+
+# Values that are no non-empty list of formats of one base.
+WRONG_LISTS = ODD_VALUES + (
+    (), (A,), (A, B), {A: B}, A, [None], [A, None], [None, A], [A, E], [E, A], [A, B, E], [A, list(B)], [A, B[:5]], [[A]],
+    [(A, B)], iter([A]), {0: A}, Sulking(), [Sulking()], [A, Sulking()],
+)
 
 
 class Scan:
@@ -172,3 +185,52 @@ def some_formats(base, many, seed):
         form = (base, head, width, chance.randrange(5), tags, chance.choice(["skip", "refuse"]))
         found[form] = True
     return list(found)
+
+
+def told(form, file):
+    """The content of a file, None if it is not read."""
+    return tuple(scan(form, file).content) if outcome(form, file) is None else None
+
+
+@lru_cache(maxsize=None)
+def contents(form, longest):
+    """All files up to a number of signs that are read, in their order, with their contents."""
+    found = {}
+    for file in all_files(form[0], longest):
+        content = told(form, file)
+        if content is not None:
+            found[file] = content
+    return found
+
+
+def order(file):
+    """The place of a file in the order of files."""
+    return len(file), file
+
+
+def variations(form, file):
+    """All variations of a file that a format reads, the nearest ones first."""
+    looked = scan(form, file).looked
+    rows = [[sign] if k in looked else range(form[0]) for k, sign in enumerate(file)]
+    found = list(itertools.product(*rows))
+    return sorted(found, key=lambda varied: (sum(a != b for a, b in zip(varied, file)), varied))
+
+
+def varied_formats(form):
+    """The format itself and others that are like it but for one part."""
+    base, head, width, most, tags, others = form
+    yield form
+    for mark in [None] + list(range(base)):
+        yield (base, head + (mark,), width, most, tags, others)
+        yield (base, (mark,) + head[1:], width, most, tags, others)
+    yield (base, head[1:], width, most, tags, others)
+    for other in ("one", "high", "low"):
+        yield (base, head, other, most, tags, others)
+    for other in (0, 1, 2, most + 1, base - 1, base * base - 1, base * base):
+        yield (base, head, width, other, tags, others)
+    for sign in range(base):
+        for use in ("keep", "check", "skip", "end", "stop"):
+            yield (base, head, width, most, tuple(sorted({**dict(tags), sign: use}.items())), others)
+        yield (base, head, width, most, tuple(tag for tag in tags if tag[0] != sign), others)
+    for other in ("skip", "refuse"):
+        yield (base, head, width, most, tags, other)

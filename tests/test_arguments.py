@@ -1,24 +1,65 @@
-"""Points [1] and [3]: arguments stay as they were, and the first wrong one decides."""
+"""Points [1] to [3]: arguments stay as they were, by position or by name, and the first wrong one decides."""
 
 import copy
+import inspect
+import itertools
 import unittest
 
-from bothreaders.errors import FileError, InvalidContent, InvalidFile, InvalidFormat
-from bothreaders.formats import is_file, is_format, stand_behind, stands
-from bothreaders.readers import is_content, looked_at, read, refusal, write
-from tests.reference import A
+from bothreaders import commons, faces, files, formats, readers, washing
+from bothreaders.errors import (
+    FileError, HasCommon, InvalidContent, InvalidFile, InvalidFormat, InvalidFormats, InvalidIndex, InvalidLength, OtherBase, Refused,
+)
+from tests.reference import A, B, C, D, E
 
-WRONG_FORMAT = [4, [1, None], "one", 3, [[0, "stop"], [2, "keep"]], "skip"]
+# For a parameter: a right value, some wrong ones, and the error for these.
+FORM = (A, ([4, [1, None], "one", 3, [[0, "stop"], [2, "keep"]], "skip"], None, A[:5]), InvalidFormat)
+OTHER = (B, (list(B), 4, ()), InvalidFormat)
+FILE = ((1, 2, 0), ([1, 2, 0], (1, 4), (True,), None), InvalidFile)
+CONTENT = (((2, (1,)),), ([[2, [1]]], ((0, ()),), None), InvalidContent)
+TOLD = (((3, (1,)),), ([(3, (1,))], ((2, ()),), None), InvalidContent)
+LENGTH = (3, (-1, True, None, 3.0), InvalidLength)
+INDEX = (1, (-1, 4, False, None, [1]), InvalidIndex)
+FORMATS = ([A, B], ((A, B), [], [A, E], [A, None], A), InvalidFormats)
+ANY = ((1, 2, 0), (), None)
 
-# Functions of a format and another value: what is right, what is wrong, and the error for it.
-OF_A_FORMAT = (
-    (is_file, (1, 3, 0), [1, 3, 0], None),
-    (stand_behind, (1, 3), [1, 3], InvalidFile),
-    (read, (1, 3, 0), [1, 3, 0], InvalidFile),
-    (refusal, (1, 3, 0), [1, 3, 0], InvalidFile),
-    (looked_at, (1, 3, 0), [1, 3, 0], InvalidFile),
-    (is_content, ((2, (1,)),), [[2, [1]]], None),
-    (write, ((2, (1,)),), [[2, [1]]], InvalidContent),
+PARAMETERS = {
+    formats.is_file: (FORM, ANY), formats.stand_behind: (FORM, FILE), formats.stands: (FORM,),
+    readers.read: (FORM, FILE), readers.refusal: (FORM, FILE), readers.looked_at: (FORM, FILE),
+    readers.is_content: (FORM, ANY), readers.write: (FORM, CONTENT),
+    files.count_files: (FORM, LENGTH), files.nth_file: (FORM, LENGTH, INDEX), files.file_index: (FORM, FILE),
+    files.alike: (FORM, OTHER), files.parting: (FORM, OTHER),
+    commons.common: (FORM, OTHER), commons.count_common: (FORM, OTHER, LENGTH), commons.is_table: (FORM, OTHER, ANY),
+    commons.doomed: (FORMATS, FILE), commons.completion: (FORMATS, FILE),
+    faces.unlike: (FORM, OTHER), faces.lost: (FORM, OTHER), faces.safe_pairs: (FORMATS,), faces.relayed: (FORM, OTHER),
+    faces.two_faced: (FORM, OTHER, CONTENT, TOLD),
+    washing.washed: (FORM, OTHER, FILE), washing.dressed: (FORM, OTHER, FILE), washing.steady: (FORM, OTHER, FILE),
+    washing.hanging: (FORM, OTHER, FILE), washing.dressed_as: (FORM, OTHER, FILE, TOLD),
+}
+
+# Functions of two formats without a common file.
+APART = (A, C)
+
+# Calls in which a condition is not met that comes behind the arguments, each ahead of the next one.
+LATER = (
+    (files.nth_file, (C, 1, 1), InvalidIndex), (files.file_index, (A, (1, 2)), Refused), (readers.read, (A, (1, 2)), Refused),
+    (files.alike, (A, E), OtherBase), (files.parting, (E, A), OtherBase), (commons.common, (A, E), OtherBase),
+    (commons.count_common, (A, E, 3), OtherBase), (commons.table, (A, E), OtherBase), (commons.table, (A, B), HasCommon),
+    (commons.is_table, (A, E, []), OtherBase), (commons.is_table, (A, E, None), OtherBase), (commons.refused_by, (A, E), OtherBase),
+    (commons.refused_by, (A, B), HasCommon), (faces.unlike, (A, E), OtherBase), (faces.lost, (E, A), OtherBase),
+    (faces.two_faced, (A, E, ((2, ()),), ((0, ()),)), OtherBase), (faces.relayed, (A, E), OtherBase),
+    (washing.washed, (A, E, (1, 2, 0)), OtherBase), (washing.washed, (A, E, (1, 2)), OtherBase), (washing.washed, (A, B, (1, 2)), Refused),
+    (washing.dressed, (A, E, (1, 2)), OtherBase), (washing.dressed, (A, B, (1, 2)), Refused), (washing.steady, (A, E, (1, 2)), OtherBase),
+    (washing.steady, (A, B, (1, 2)), Refused), (washing.hanging, (A, E, (1, 2)), OtherBase), (washing.hanging, (A, B, (1, 2)), Refused),
+    (washing.dressed_as, (A, E, (1, 2), None), InvalidContent), (washing.dressed_as, (A, E, (1, 2), ()), OtherBase),
+    (washing.dressed_as, (A, B, (1, 2), ((2, ()),)), InvalidContent), (washing.dressed_as, (A, B, (1, 2), ()), Refused),
+    (washing.dressed_as, (A, E, (1, 4), None), InvalidFile), (commons.count_common, (A, E, -1), InvalidLength),
+    (faces.two_faced, (A, E, ((3, ()),), ()), InvalidContent), (faces.two_faced, (A, E, (), ((1, ()),)), InvalidContent),
+)
+
+# Calls that return a list that is not empty.
+LISTS = (
+    (formats.stands, (D,)), (readers.looked_at, (D, (1, 2, 0))), (commons.table, APART), (faces.safe_pairs, ([A, A],)),
+    (washing.hanging, (A, B, (1, 2, 0))),
 )
 
 
@@ -34,27 +75,74 @@ class ArgumentsTest(unittest.TestCase):
         self.assertEqual(arguments, kept)
         return found
 
-    def test_one_argument(self):
-        self.assertIs(self.call(is_format, WRONG_FORMAT), False)
-        self.assertIs(self.call(is_format, A), True)
-        self.assertIs(self.call(stands, WRONG_FORMAT), InvalidFormat)
-        self.assertEqual(len(self.call(stands, A)), 12)
+    def is_error(self, found):
+        return isinstance(found, type) and issubclass(found, FileError)
 
-    def test_a_wrong_second_argument(self):
-        for function, _, wrong, error in OF_A_FORMAT:
+    def test_any_value_is_a_format_or_none(self):
+        self.assertIs(self.call(formats.is_format, FORM[1][0]), False)
+        self.assertIs(self.call(formats.is_format, A), True)
+
+    def test_right_arguments(self):
+        for function, parameters in PARAMETERS.items():
             with self.subTest(function=function.__name__):
-                self.assertIs(self.call(function, A, wrong), error if error is not None else False)
+                arguments = [right for right, _, _ in parameters]
+                found = self.call(function, *arguments)
+                self.assertFalse(self.is_error(found), found)
+                self.assertEqual(self.call(function, *arguments), found)
 
-    def test_a_wrong_format_comes_first(self):
-        for function, right, wrong, _ in OF_A_FORMAT:
-            for value in (right, wrong):
-                with self.subTest(function=function.__name__, value=value):
-                    self.assertIs(self.call(function, WRONG_FORMAT, value), InvalidFormat)
-
-    def test_the_same_call_again(self):
-        for function, right, _, _ in OF_A_FORMAT:
+    def test_arguments_by_name(self):
+        for function, parameters in PARAMETERS.items():
             with self.subTest(function=function.__name__):
-                self.assertEqual(self.call(function, A, right), self.call(function, A, right))
+                arguments = [right for right, _, _ in parameters]
+                named = dict(reversed(list(zip(inspect.signature(function).parameters, arguments))))
+                self.assertEqual(function(**named), function(*arguments))
+                self.assertEqual(function(arguments[0], **dict(list(named.items())[:-1])), function(*arguments))
+
+    def test_the_first_wrong_argument_decides(self):
+        for function, parameters in PARAMETERS.items():
+            for rows in itertools.product(*[[(right, None)] + [(value, error) for value in wrong] for right, wrong, error in parameters]):
+                errors = [error for _, error in rows if error is not None]
+                if errors:
+                    with self.subTest(function=function.__name__, rows=rows):
+                        self.assertIs(self.call(function, *[value for value, _ in rows]), errors[0])
+
+    def test_later_conditions(self):
+        for function, arguments, error in LATER:
+            with self.subTest(function=function.__name__, arguments=arguments):
+                self.assertIs(self.call(function, *arguments), error)
+
+    def test_tables(self):
+        for function in (commons.table, commons.refused_by):
+            self.assertFalse(self.is_error(self.call(function, *APART)))
+            self.assertEqual(function(other=C, one=A), function(A, C))
+            for wrong in FORM[1]:
+                self.assertIs(self.call(function, wrong, A), InvalidFormat)
+                self.assertIs(self.call(function, A, wrong), InvalidFormat)
+                self.assertIs(self.call(function, E, wrong), InvalidFormat)
+        value = commons.table(*APART)
+        self.assertIs(self.call(commons.is_table, A, C, value), True)
+        self.assertIs(commons.is_table(value=value, other=C, one=A), True)
+
+    def test_each_list_is_a_new_one(self):
+        for function, arguments in LISTS:
+            with self.subTest(function=function.__name__):
+                first = function(*arguments)
+                kept = list(first)
+                self.assertIs(first.__class__, list)
+                self.assertIsNot(function(*arguments), first)
+                first.append(None)
+                first[0] = None
+                self.assertEqual(function(*arguments), kept)
+
+    def test_a_change_behind_the_call(self):
+        some = [A, B]
+        self.assertEqual(faces.safe_pairs(some), [])
+        some[1] = A
+        self.assertEqual(faces.safe_pairs(some), [(0, 1), (1, 0)])
+        value = commons.table(*APART)
+        self.assertIs(commons.is_table(A, C, value), True)
+        value.clear()
+        self.assertIs(commons.is_table(A, C, value), False)
 
 
 if __name__ == "__main__":

@@ -29,6 +29,38 @@ SECTION_3 = """
     [[0, 2, 3, 6], [1, 2], (0, 2, 1, 2, 3, 1, 0, 3, 0, 0), False]
 """
 
+SECTION_4 = """
+    >>> from bothreaders.files import alike, count_files, file_index, nth_file, parting
+    >>> [count_files(a, 3), nth_file(a, 3, 2), file_index(a, (1, 3, 0)), count_files(c, 1), count_files(c, 2)]
+    [4, (1, 2, 0), 3, 1, 0]
+    >>> [alike(a, d), parting(a, d), parting(d, (4, (1, 2), "one", 3, ((0, "stop"), (2, "keep"), (3, "skip")), "refuse"))]
+    [False, (1, 0, 0), (1, 2, 3, 0, 0)]
+"""
+
+SECTION_5 = """
+    >>> from bothreaders.commons import common, completion, count_common, doomed, is_table, refused_by, table
+    >>> [common(a, b), common(a, c), table(a, c), is_table(a, c, []), refused_by(a, c), count_common(a, b, 3)]
+    [(1, 2, 0), None, [(('head', 0), ('head', 0))], False, 0, 1]
+    >>> [doomed([a, b], (1, 2, 2)), doomed([a, b], (1, 2)), doomed([a, c], ()), completion([a, b], (1,)), completion([a], ()), completion([a, b], (0,))]
+    [3, None, 0, (2, 0), (1, 0, 0), None]
+"""
+
+SECTION_6 = """
+    >>> from bothreaders.faces import lost, relayed, safe_pairs, two_faced, unlike
+    >>> [unlike(a, b), unlike(a, d), lost(a, b), lost(d, a), safe_pairs([a, b, d]), relayed(a, b), relayed(d, a)]
+    [(1, 2, 3, 0, 0), None, (1, 0, 0), None, [(2, 0)], (), None]
+    >>> [two_faced(a, b, (), ((3, (2,)),)), two_faced(a, b, ((2, ()),), ())]
+    [(1, 2, 3, 1, 2, 0), None]
+"""
+
+SECTION_7 = """
+    >>> from bothreaders.washing import dressed, dressed_as, hanging, steady, washed
+    >>> [washed(a, b, (1, 2, 0)), dressed(a, b, (1, 0, 0)), hanging(a, b, (1, 2, 0)), steady(a, b, (1, 2, 0)), washed(d, a, (1, 2, 0))]
+    [(1, 0, 0), (1, 2, 0), [1], False, None]
+    >>> [dressed_as(a, b, (1, 0, 3, 0, 0), ((3, ()),)), steady(d, a, (1, 2, 0)), dressed(a, c, (1, 0, 0))]
+    [(1, 2, 3, 0, 0), True, None]
+"""
+
 
 class ExamplesTest(unittest.TestCase):
 
@@ -45,8 +77,20 @@ class ExamplesTest(unittest.TestCase):
         # The formats a to d of section 3 are those of section 2.
         self.run_examples(SECTION_2 + SECTION_3, 12)
 
+    def test_section_4(self):
+        self.run_examples(SECTION_2 + SECTION_4, 10)
+
+    def test_section_5(self):
+        self.run_examples(SECTION_2 + SECTION_5, 10)
+
+    def test_section_6(self):
+        self.run_examples(SECTION_2 + SECTION_6, 10)
+
+    def test_section_7(self):
+        self.run_examples(SECTION_2 + SECTION_7, 10)
+
     def test_readme(self):
-        self.run_examples(README.read_text(encoding="utf-8"), 9)
+        self.run_examples(README.read_text(encoding="utf-8"), 28)
 
 
 if __name__ == "__main__":

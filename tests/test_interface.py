@@ -13,6 +13,16 @@ FUNCTIONS = {
                 "stands": ["form"]},
     "readers": {"read": ["form", "file"], "refusal": ["form", "file"], "looked_at": ["form", "file"],
                 "is_content": ["form", "value"], "write": ["form", "content"]},
+    "files": {"count_files": ["form", "length"], "nth_file": ["form", "length", "index"], "file_index": ["form", "file"],
+              "alike": ["one", "other"], "parting": ["one", "other"]},
+    "commons": {"common": ["one", "other"], "count_common": ["one", "other", "length"], "table": ["one", "other"],
+                "is_table": ["one", "other", "value"], "doomed": ["formats", "file"], "completion": ["formats", "beginning"],
+                "refused_by": ["one", "other"]},
+    "faces": {"unlike": ["one", "other"], "lost": ["one", "other"], "safe_pairs": ["formats"],
+              "two_faced": ["one", "other", "content", "told"], "relayed": ["one", "other"]},
+    "washing": {"washed": ["one", "other", "file"], "dressed": ["one", "other", "file"],
+                "dressed_as": ["one", "other", "file", "content"], "steady": ["one", "other", "file"],
+                "hanging": ["one", "other", "file"]},
 }
 
 CLASSES = {

@@ -5,10 +5,8 @@ import unittest
 from bothreaders.errors import InvalidFile, InvalidFormat
 from bothreaders.formats import stand_behind, stands
 from tests.reference import (
-    A, ALL_REFUSE, ALL_SKIP, B, C, D, E, F, ODD_VALUES, Sulking, all_files, scan, some_formats,
+    A, ALL_REFUSE, ALL_SKIP, B, C, D, E, F, ODD_VALUES, Sulking, WRONG_FILES, all_files, scan, some_formats,
 )
-
-WRONG_FILES = ([], [1], (4,), (-1,), (0, True), (False,), (None,), (1.0,), "", b"", None, 0, {}, range(1), ((),), Sulking())
 
 
 class StandBehindTest(unittest.TestCase):
