@@ -1,7 +1,8 @@
 """Files that two formats, or some formats, read in common."""
 
 from bothreaders.errors import HasCommon, InvalidFile
-from bothreaders.formats import are_signs, check_formats, check_length, check_same_base, check_two_formats, is_integer
+from bothreaders.formats import are_signs, check_formats, check_length, check_same_base, check_two_formats
+from bothreaders.formats import is_like_stand
 from bothreaders.machines import FIRST, joint_machine, machine_of, pairs_along
 from bothreaders.searches import joint_stands, last_hope, least_common, least_file, rest_counts
 from bothreaders.steps import BASE, all_stands, ends_well, first_stand, next_stand
@@ -92,12 +93,7 @@ def _check_signs(formats, file):
 
 
 def _is_like_pair(value):
-    return isinstance(value, tuple) and len(value) == 2 and all([_is_like_stand(stand) for stand in value])
-
-
-def _is_like_stand(value):
-    # True and 1 are the same key of a set, so the kinds are looked at first.
-    return isinstance(value, tuple) and all([isinstance(part, str) or is_integer(part) for part in value])
+    return isinstance(value, tuple) and len(value) == 2 and all([is_like_stand(stand) for stand in value])
 
 
 def _pairs_behind(one, other, left, right):

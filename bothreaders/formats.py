@@ -97,6 +97,12 @@ def are_signs(value, base):
     return isinstance(value, tuple) and all([is_sign(sign, base) for sign in value])
 
 
+def is_like_stand(value):
+    """Return whether any value is a tuple of strings and integers, and so may be looked up among stands."""
+    # True and 1 are the same key of a set, so the kinds are looked at first.
+    return isinstance(value, tuple) and all([isinstance(part, str) or is_integer(part) for part in value])
+
+
 def _is_word(value, words):
     # Only strings are compared: another value may answer == as it likes.
     return isinstance(value, str) and value in words

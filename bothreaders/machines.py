@@ -32,7 +32,7 @@ def machine_of(form):
     """
     names = all_stands(form)
     signs = range(form[BASE])
-    moves = _numbered(names, [[next_stand(form, name, sign) for sign in signs] for name in names])
+    moves = numbered_rows(names, [[next_stand(form, name, sign) for sign in signs] for name in names])
     ends = [False] + [ends_well(form, name) for name in names]
     tells = [[NOTHING] * form[BASE]] + [[told_part(form, name, sign) for sign in signs] for name in names]
     return Machine(moves, ends, tells)
@@ -62,7 +62,7 @@ def telling_machine(form, content):
                 names.append(name)
         rows.append(row)
     ends = [False] + [told == len(parts) and ends_well(form, stand) for stand, told in names]
-    return Machine(_numbered(names, rows), ends, [])
+    return Machine(numbered_rows(names, rows), ends, [])
 
 
 def refusing_machine(machine):
@@ -99,16 +99,51 @@ def pairs_along(one, other):
 def joint_machine(one, other):
     """Return the machine of the files that two machines both read."""
     pairs = pairs_along(one, other)
-    moves = _numbered(pairs, [stands_behind([one, other], pair) for pair in pairs])
+    moves = numbered_rows(pairs, [stands_behind([one, other], pair) for pair in pairs])
     ends = [False] + [one.ends[mine] and other.ends[theirs] for mine, theirs in pairs]
     return Machine(moves, ends, [])
 
 
-def _numbered(names, rows):
-    # What is no name of a stand, is refused.
+def numbered_rows(names, rows):
+    """Return the moves of a machine, told by the names of its stands and the row of the names behind each one.
+
+    What is no name of a stand, is refused.
+    """
     numbers = {names[k]: FIRST + k for k in range(len(names))}
     refused = [REFUSED] * len(rows[0])
     return [refused] + [[numbers.get(name, REFUSED) for name in row] for row in rows]
+
+
+def hopeful_machine(machines):
+    """Return the machine of the files that all machines read; it refuses each sign behind which there is none."""
+    found = _without_doomed(machines[0])
+    for machine in machines[1:]:
+        # What is doomed for some of the machines need not be gone through with the other ones.
+        found = _without_doomed(joint_machine(found, machine))
+    return found
+
+
+def _without_doomed(machine):
+    hopeful = _hopeful_stands(machine)
+    rows = [[behind if hopeful[behind] else REFUSED for behind in row] for row in machine.moves]
+    return Machine(rows, machine.ends, [])
+
+
+def _hopeful_stands(machine):
+    """Return, for each stand, whether some rest is read from it on."""
+    ahead = [[] for _ in machine.moves]
+    for stand, row in enumerate(machine.moves):
+        for behind in row:
+            ahead[behind].append(stand)
+    hopeful = list(machine.ends)
+    waiting = [stand for stand, end in enumerate(machine.ends) if end]
+    while waiting:
+        behind = waiting.pop()
+        for stand in ahead[behind]:
+            if not hopeful[stand]:
+                hopeful[stand] = True
+                waiting.append(stand)
+    return hopeful
 
 
 def _is_written(form, stand, sign):

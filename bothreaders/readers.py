@@ -2,8 +2,8 @@
 
 from bothreaders.errors import InvalidContent, Refused
 from bothreaders.formats import are_signs, check_file, check_format, is_sign
-from bothreaders.steps import BASE, HEAD, MOST, TOLD_USES, WIDTH
-from bothreaders.steps import end_tag, ends_well, looks, stands_along, use_of
+from bothreaders.steps import BASE, HEAD, MOST, NOTHING, TOLD_USES, WIDTH
+from bothreaders.steps import end_tag, ends_well, looks, stands_along, told_part, use_of
 
 # The words of a refusal, by the name of the stand. At the other stands no
 # sign is refused.
@@ -51,10 +51,15 @@ def check_content(form, content):
         raise InvalidContent()
 
 
+def word_at(stand):
+    """Return the word of a refusal at a stand."""
+    return REFUSALS[stand[0]]
+
+
 def refusal_along(form, along):
     """Return where and why a file with these stands is not read, or None."""
     if along[-1] is None:
-        return (len(along) - 2, REFUSALS[along[-2][0]])
+        return (len(along) - 2, word_at(along[-2]))
     if not ends_well(form, along[-1]):
         return (len(along) - 1, "short")
     return None
@@ -78,23 +83,19 @@ def content_or_none(form, file):
     return told_along(form, file, along)
 
 
-def told_along(form, file, along):
-    """Return the content of a file that is read, with these stands."""
-    ahead = 2 if form[WIDTH] == "one" else 3
-    tags = [k for k in range(len(file)) if _begins_told(along[k + 1])]
-    return tuple([(file[k], _body_at(file, along, k + ahead)) for k in tags])
+def told_along(form, signs, along):
+    """Return what a reader has told behind signs that it takes, with these stands: the last body perhaps a part.
+
+    Behind a file that is read, this is its content.
+    """
+    parts = [told_part(form, along[k], signs[k]) for k in range(len(signs))]
+    begun = [k for k in range(len(signs)) if parts[k] >= form[BASE]]
+    over = begun[1:] + [len(signs)]
+    return tuple([(signs[at], _body_of(parts[at + 1:end])) for at, end in zip(begun, over)])
 
 
-def _begins_told(stand):
-    # Only a tag leads to the first sign of a length.
-    return stand[0] == "length" and stand[1] in TOLD_USES
-
-
-def _body_at(file, along, at):
-    # Behind the length 0 there comes no body.
-    if along[at][0] == "body":
-        return file[at:at + along[at][2]]
-    return ()
+def _body_of(parts):
+    return tuple([part for part in parts if part != NOTHING])
 
 
 def _greatest_length(form):

@@ -79,3 +79,39 @@ def rest_counts(machine, length):
     for left in range(length):
         counts.append([sum([counts[left][behind] for behind in row]) for row in machine.moves])
     return counts
+
+
+def read_the_same(one, other):
+    """Return whether two machines, perhaps of unlike bases, read the same files.
+
+    Stands from which the same rests have to be read are put into one class,
+    from the first two on. Each class has a leader, so this ends soon.
+    """
+    signs = max(len(one.moves[FIRST]), len(other.moves[FIRST]))
+    shift = len(one.moves)
+    rows = _widened(one.moves, signs, 0) + _widened(other.moves, signs, shift)
+    ends = one.ends + other.ends
+    leaders = list(range(len(rows)))
+    waiting = [(FIRST, shift + FIRST)]
+    while waiting:
+        pair = waiting.pop()
+        left = _leader_of(leaders, pair[0])
+        right = _leader_of(leaders, pair[1])
+        if ends[left] != ends[right]:
+            return False
+        if left != right:
+            leaders[left] = right
+            waiting.extend(list(zip(rows[left], rows[right])))
+    return True
+
+
+def _leader_of(leaders, stand):
+    while leaders[stand] != stand:
+        stand = leaders[stand]
+    return stand
+
+
+def _widened(rows, signs, shift):
+    # The signs that only the other machine has are refused.
+    refused = [shift + REFUSED]
+    return [[shift + behind for behind in row] + refused * (signs - len(row)) for row in rows]

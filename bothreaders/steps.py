@@ -34,6 +34,11 @@ def behind_marks(form, count):
     return TAG
 
 
+def with_head(form, head):
+    """Return a format with another head."""
+    return form[:HEAD] + (head,) + form[WIDTH:]
+
+
 def use_of(form, sign):
     """Return the use of a sign at a tag's place, "refuse" if it has none."""
     for tag, use in form[TAGS]:

@@ -13,6 +13,7 @@ import tokenize
 import warnings
 
 from tests.language_calls import call_faults
+from tests.language_classes import class_faults
 
 LONGEST_FUNCTION = 40
 LONGEST_FILE = 399
@@ -23,7 +24,7 @@ NODES = (
     ast.AugAssign, ast.If, ast.While, ast.For, ast.Break, ast.Continue, ast.Pass, ast.Raise, ast.Expr, ast.Call,
     ast.keyword, ast.Name, ast.Attribute, ast.Subscript, ast.Slice, ast.Tuple, ast.List, ast.Dict, ast.ListComp,
     ast.DictComp, ast.comprehension, ast.Constant, ast.BoolOp, ast.BinOp, ast.UnaryOp, ast.Compare, ast.IfExp,
-    ast.expr_context, ast.boolop, ast.operator, ast.unaryop, ast.cmpop, ast.Starred,
+    ast.expr_context, ast.boolop, ast.operator, ast.unaryop, ast.cmpop, ast.Starred, ast.JoinedStr, ast.FormattedValue,
 )
 LIBRARY = {
     "heapq": {"heappush", "heappop", "heapify", "heapreplace", "heappushpop"},
@@ -41,7 +42,7 @@ BUILTINS = set(
 METHODS = set(
     "append clear copy count endswith extend find get index insert isalnum isalpha isdigit islower isspace isupper items "
     "join keys ljust lower lstrip partition pop remove replace reverse rfind rjust rpartition rsplit rstrip setdefault "
-    "split splitlines startswith strip update upper values zfill bit_length add discard sort popleft appendleft".split()
+    "split splitlines startswith strip update upper values zfill bit_length add discard sort popleft appendleft isascii".split()
 )
 CHANGING = set("append clear extend insert pop remove reverse setdefault update add discard sort".split())
 # Builtins whose names a parameter or a local variable may have (L15).
@@ -72,9 +73,10 @@ def file_faults(path, text, modules):
         except (SyntaxError, Warning) as wrong:
             return found + [f"L27: {wrong}"]
     found += token_faults(text)
-    found += node_faults(tree)
+    found += node_faults(tree, own_methods(text, modules))
     found += module_faults(tree, modules)
     found += call_faults(tree, modules)
+    found += class_faults(tree)
     found += name_faults(tree)
     return found
 
@@ -111,7 +113,13 @@ def token_faults(text):
     return found
 
 
-def node_faults(tree):
+def own_methods(text, modules):
+    """The names of all methods of the package's classes, and of those of a text."""
+    classes = [node for row in [text, *modules.values()] for node in ast.parse(row).body if isinstance(node, ast.ClassDef)]
+    return {row.name for node in classes for row in node.body if isinstance(row, ast.FunctionDef)}
+
+
+def node_faults(tree, methods):
     found = []
     docs = docstrings(tree)
     for node in ast.walk(tree):
@@ -125,6 +133,8 @@ def node_faults(tree):
         if isinstance(node, ast.Constant) and id(node) not in docs:
             found += [f"L7, L27: line {at}: {fault}" for fault in constant_faults(node.value)]
         found += [f"{fault}, line {at}" for fault in statement_faults(node)]
+        if isinstance(node, ast.Call) and isinstance(node.func, ast.Attribute) and node.func.attr not in METHODS | methods:
+            found.append(f"L25: line {at}: the method {node.func.attr}")
     return found
 
 
@@ -158,10 +168,11 @@ def statement_faults(node):
     if isinstance(node, ast.Raise):
         if not isinstance(node.exc, ast.Call) or not isinstance(node.exc.func, ast.Name) or node.cause is not None:
             found.append("L19: raise")
-    if isinstance(node, ast.Call) and isinstance(node.func, ast.Attribute) and node.func.attr not in METHODS:
-        found.append(f"L25: the method {node.func.attr}")
-    if isinstance(node, ast.FunctionDef) and node.decorator_list:
-        found.append("L4: a decorator")
+    if isinstance(node, ast.FormattedValue):
+        inner = [part for part in ast.walk(node.value)
+                 if isinstance(part, ast.JoinedStr) or isinstance(part, ast.Constant) and isinstance(part.value, str)]
+        if node.conversion != -1 or node.format_spec is not None or inner:
+            found.append("L7, L27: what stands in the braces of an f-string")
     if isinstance(node, ast.For):
         found += loop_faults(node)
     return found

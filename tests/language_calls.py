@@ -63,6 +63,8 @@ def set_faults(tree, parents):
             found.append(f"L24: line {node.lineno}: a set of another form")
         if is_call_of(node, ("set", "frozenset")):
             above = parents[node]
+            if is_call_of(above, ("len", "sorted")) and above.args == [node]:
+                continue
             if isinstance(above, ast.Assign) and len(above.targets) == 1 and isinstance(above.targets[0], ast.Name):
                 found += kept_set_faults(function_around(above, parents), above.targets[0], parents)
             else:
@@ -125,6 +127,7 @@ def numbers_of_function(node, own):
 
 def number_faults(call, own):
     """L22: a call passes what its function takes; L5, L7: a builtin that looks at all items takes a list."""
+    # What a method is called with, is not looked at here; cls(..) neither.
     name = name_of(call)
     if name in own and not own[name][0] <= len(call.args) <= own[name][1]:
         return [f"L22: {name} is called with {len(call.args)} arguments"]

@@ -5,9 +5,10 @@ import inspect
 import itertools
 import unittest
 
-from bothreaders import commons, faces, files, formats, readers, washing
+from bothreaders import commons, faces, files, formats, readers, texts, washers, washing
 from bothreaders.errors import (
-    FileError, HasCommon, InvalidContent, InvalidFile, InvalidFormat, InvalidFormats, InvalidIndex, InvalidLength, OtherBase, Refused,
+    FileError, HasCommon, HasStubborn, InvalidContent, InvalidFile, InvalidFormat, InvalidFormats, InvalidIndex, InvalidLength, InvalidText,
+    OtherBase, Refused,
 )
 from tests.reference import A, B, C, D, E
 
@@ -20,6 +21,8 @@ TOLD = (((3, (1,)),), ([(3, (1,))], ((2, ()),), None), InvalidContent)
 LENGTH = (3, (-1, True, None, 3.0), InvalidLength)
 INDEX = (1, (-1, 4, False, None, [1]), InvalidIndex)
 FORMATS = ([A, B], ((A, B), [], [A, E], [A, None], A), InvalidFormats)
+TEXT = ("1 2 0", ("1 4", "", None, (1, 2, 0)), InvalidText)
+FORM_TEXT = ("base 4; head; width one; most 0; tags; others skip", ("base 4", "", None, A), InvalidText)
 ANY = ((1, 2, 0), (), None)
 
 PARAMETERS = {
@@ -34,6 +37,9 @@ PARAMETERS = {
     faces.two_faced: (FORM, OTHER, CONTENT, TOLD),
     washing.washed: (FORM, OTHER, FILE), washing.dressed: (FORM, OTHER, FILE), washing.steady: (FORM, OTHER, FILE),
     washing.hanging: (FORM, OTHER, FILE), washing.dressed_as: (FORM, OTHER, FILE, TOLD),
+    washers.stubborn: (FORM, OTHER), washers.count_stubborn: (FORM, OTHER, LENGTH), washers.washing_table: (FORM, OTHER),
+    washers.is_washing_table: (FORM, OTHER, ANY),
+    texts.show_format: (FORM,), texts.show_file: (FORM, FILE), texts.parse_file: (FORM, TEXT), texts.parse_format: (FORM_TEXT,),
 }
 
 # Functions of two formats without a common file.
@@ -54,12 +60,15 @@ LATER = (
     (washing.dressed_as, (A, B, (1, 2), ((2, ()),)), InvalidContent), (washing.dressed_as, (A, B, (1, 2), ()), Refused),
     (washing.dressed_as, (A, E, (1, 4), None), InvalidFile), (commons.count_common, (A, E, -1), InvalidLength),
     (faces.two_faced, (A, E, ((3, ()),), ()), InvalidContent), (faces.two_faced, (A, E, (), ((1, ()),)), InvalidContent),
+    (washers.stubborn, (A, E), OtherBase), (washers.count_stubborn, (A, E, 3), OtherBase), (washers.count_stubborn, (A, E, -1), InvalidLength),
+    (washers.washing_table, (E, A), OtherBase), (washers.washing_table, (A, A), HasStubborn), (washers.is_washing_table, (A, E, []), OtherBase),
+    (washers.is_washing_table, (E, A, None), OtherBase),
 )
 
 # Calls that return a list that is not empty.
 LISTS = (
     (formats.stands, (D,)), (readers.looked_at, (D, (1, 2, 0))), (commons.table, APART), (faces.safe_pairs, ([A, A],)),
-    (washing.hanging, (A, B, (1, 2, 0))),
+    (washing.hanging, (A, B, (1, 2, 0))), (washers.washing_table, (A, B)),
 )
 
 
@@ -122,6 +131,9 @@ class ArgumentsTest(unittest.TestCase):
         value = commons.table(*APART)
         self.assertIs(self.call(commons.is_table, A, C, value), True)
         self.assertIs(commons.is_table(value=value, other=C, one=A), True)
+        value = washers.washing_table(A, B)
+        self.assertIs(self.call(washers.is_washing_table, A, B, value), True)
+        self.assertIs(washers.is_washing_table(value=value, other=B, one=A), True)
 
     def test_each_list_is_a_new_one(self):
         for function, arguments in LISTS:

@@ -61,6 +61,43 @@ SECTION_7 = """
     [(1, 2, 3, 0, 0), True, None]
 """
 
+SECTION_8 = """
+    >>> from bothreaders.washers import count_stubborn, is_washing_table, stubborn, washing_table
+    >>> u, v = (3, (1, 2), "one", 1, ((0, "stop"),), "refuse"), (3, (1,), "one", 1, ((0, "end"),), "skip")
+    >>> [stubborn(u, v), common(u, v), stubborn(v, u), count_stubborn(v, v, 2), stubborn(v, v)]
+    [None, None, None, 1, (1, 0)]
+    >>> [washing_table(u, v), is_washing_table(u, v, [])]
+    [[(('head', 0), (('head', 0),)), (('head', 1), (('tag',),)), (('over',), (('tag',),)), (('tag',), (('length', 'skip'),))], False]
+"""
+
+SECTION_9 = """
+    >>> from bothreaders.texts import parse_file, parse_format, show_file, show_format
+    >>> [show_format(a), show_format(c), show_file(a, (1, 2, 0)), parse_file(a, "empty")]
+    ['base 4; head 1 *; width one; most 3; tags 0 stop, 2 keep; others skip', 'base 4; head 2; width one; most 0; tags; others refuse', '1 2 0', ()]
+    >>> parse_format("base 4; head; width low; most 9; tags 1 check; others skip")
+    (4, (), 'low', 9, ((1, 'check'),), 'skip')
+"""
+
+SECTION_11 = """
+    >>> from bothreaders.objects import Pair, Reader
+    >>> r = Reader(b)
+    >>> [r(1), r(2), r(3), r(1), r(1), r.told, r.stand, r.undo(), r.told, len(r)]
+    ['open', 'open', 'open', 'open', 'open', ((3, (1,)),), ('tag',), 1, ((3, ()),), 4]
+    >>> p = Pair(a, b)
+    >>> [bool(p), (1, 2, 0) in p, p[(1, 2, 3, 0, 0)], p((1,)), p.unlike(), bool(p + 1), (~p).lost(), p == ~p]
+    [True, True, ((), ((3, ()),)), (2, 0), (1, 2, 3, 0, 0), True, (0, 2, 0), True]
+"""
+
+SECTION_12 = """
+    >>> from bothreaders.streams import Stream, StrictCappedStream
+    >>> x = Stream((a, b, c))
+    >>> [x.put(1), x.put(2), x.put(3), x.completion(), x.tell(), x.undo(), x.left, x.done]
+    [2, 2, 2, (0, 0), ['formats 3', 'left 0 1', '1 2 3'], 3, [0, 1], []]
+    >>> y = StrictCappedStream((a, b), most=2)
+    >>> [y.put(1), y.put(2), y.tell()]
+    [2, 2, ['formats 2', 'left 0 1', '1 2', 'strict', 'most 2']]
+"""
+
 
 class ExamplesTest(unittest.TestCase):
 
@@ -89,8 +126,25 @@ class ExamplesTest(unittest.TestCase):
     def test_section_7(self):
         self.run_examples(SECTION_2 + SECTION_7, 10)
 
+    def test_section_8(self):
+        # common is that of section 5.
+        self.run_examples(SECTION_2 + SECTION_5 + SECTION_8, 14)
+
+    def test_section_9(self):
+        self.run_examples(SECTION_2 + SECTION_9, 10)
+
+    def test_section_11(self):
+        self.run_examples(SECTION_2 + SECTION_11, 12)
+
+    def test_section_12(self):
+        self.run_examples(SECTION_2 + SECTION_12, 12)
+
+    def test_all_sections(self):
+        every = (SECTION_2, SECTION_3, SECTION_4, SECTION_5, SECTION_6, SECTION_7, SECTION_8, SECTION_9, SECTION_11, SECTION_12)
+        self.run_examples("".join(every), 41)
+
     def test_readme(self):
-        self.run_examples(README.read_text(encoding="utf-8"), 28)
+        self.run_examples(README.read_text(encoding="utf-8"), 49)
 
 
 if __name__ == "__main__":

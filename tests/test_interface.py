@@ -6,6 +6,8 @@ import inspect
 import pathlib
 import unittest
 
+from bothreaders import streams
+
 PACKAGE = pathlib.Path(__file__).resolve().parent.parent / "bothreaders"
 
 FUNCTIONS = {
@@ -23,12 +25,39 @@ FUNCTIONS = {
     "washing": {"washed": ["one", "other", "file"], "dressed": ["one", "other", "file"],
                 "dressed_as": ["one", "other", "file", "content"], "steady": ["one", "other", "file"],
                 "hanging": ["one", "other", "file"]},
+    "washers": {"stubborn": ["one", "other"], "count_stubborn": ["one", "other", "length"], "washing_table": ["one", "other"],
+                "is_washing_table": ["one", "other", "value"]},
+    "texts": {"show_format": ["form"], "parse_format": ["text"], "show_file": ["form", "file"], "parse_file": ["form", "text"]},
 }
 
 CLASSES = {
     "errors": ["FileError", "InvalidFormat", "InvalidFormats", "InvalidFile", "InvalidContent", "InvalidLength",
                "InvalidIndex", "InvalidText", "InvalidSign", "InvalidMark", "InvalidNumber", "OtherBase", "NothingToUndo",
                "Doomed", "TooLong", "Refused", "HasCommon", "HasStubborn"],
+    "objects": ["Reader", "Pair"],
+    "streams": ["Stream", "StrictStream", "CappedStream", "StrictCappedStream"],
+}
+
+# What stands in the body of each class itself: methods with their arguments, and properties (None).
+METHODS = {
+    ("objects", "Reader"): {
+        "__init__": ["self", "form"], "form": None, "signs": None, "stand": None, "told": None, "__call__": ["self", "sign"],
+        "__len__": ["self"], "__eq__": ["self", "other"], "undo": ["self"], "twin": ["self"],
+    },
+    ("objects", "Pair"): {
+        "__init__": ["self", "one", "other"], "one": None, "other": None, "__bool__": ["self"], "__contains__": ["self", "x"],
+        "__eq__": ["self", "other"], "__invert__": ["self"], "__add__": ["self", "other"], "__sub__": ["self", "other"],
+        "__getitem__": ["self", "at"], "__call__": ["self", "beginning"], "common": ["self"], "unlike": ["self"], "lost": ["self"],
+        "stubborn": ["self"], "table": ["self"], "washed": ["self", "file"], "steady": ["self", "file"],
+    },
+    ("streams", "Stream"): {
+        "__init__": ["self", "formats"], "formats": None, "signs": None, "left": None, "done": None, "__len__": ["self"],
+        "__getitem__": ["self", "at"], "put": ["self", "sign"], "completion": ["self"], "undo": ["self"], "tell": ["self"],
+        "is_valid": ["value"], "read": ["cls", "formats", "text"],
+    },
+    ("streams", "StrictStream"): {"__init__": ["self", "formats"]},
+    ("streams", "CappedStream"): {"__init__": ["self", "formats", "most"], "most": None},
+    ("streams", "StrictCappedStream"): {"__init__": ["self", "formats", "most"]},
 }
 
 
@@ -55,6 +84,30 @@ class InterfaceTest(unittest.TestCase):
             for name in classes:
                 with self.subTest(module=module, name=name):
                     self.assertIn(name, defined_in(module, ast.ClassDef))
+
+    def test_methods(self):
+        for (module, name), methods in METHODS.items():
+            found = getattr(importlib.import_module(f"bothreaders.{module}"), name)
+            for method, parameters in methods.items():
+                with self.subTest(name=name, method=method):
+                    value = vars(found)[method]
+                    if parameters is None:
+                        self.assertIsInstance(value, property)
+                    else:
+                        value = getattr(value, "__func__", value)
+                        self.assertEqual(list(inspect.signature(value).parameters), parameters)
+        self.assertIsInstance(vars(streams.Stream)["is_valid"], staticmethod)
+        self.assertIsInstance(vars(streams.Stream)["read"], classmethod)
+        self.assertIn("WORDS", vars(streams.Stream))
+
+    def test_default_values(self):
+        for kind in (streams.CappedStream, streams.StrictCappedStream):
+            self.assertEqual(inspect.signature(kind).parameters["most"].default, 40)
+
+    def test_base_classes(self):
+        for name, above in (("Stream", "object"), ("StrictStream", "Stream"), ("CappedStream", "Stream")):
+            self.assertEqual([base.__name__ for base in getattr(streams, name).__bases__], [above])
+        self.assertEqual(sorted(base.__name__ for base in streams.StrictCappedStream.__bases__), ["CappedStream", "StrictStream"])
 
     def test_arguments_by_name(self):
         from bothreaders.formats import is_file, is_format, stand_behind, stands

@@ -5,6 +5,7 @@ import re
 import unittest
 
 from tests.language import BARRED_ANYWHERE, BARRED_FILES, BARRED_WORDS, circles, file_faults
+from tests.language_classes import package_faults
 
 PACKAGE = pathlib.Path(__file__).resolve().parent.parent / "bothreaders"
 
@@ -28,6 +29,23 @@ FORBIDDEN = (
     ("L15", "def low(next):\n    return next\n"),
     ("L15", "class Box:\n    pass\n\n\ndef low(Box):\n    return Box\n"),
     ("L4", "def low():\n    return 0\n\n\n@low\ndef high():\n    return 1\n"),
+    ("L4", "class Box:\n    @low\n    def high(self):\n        return 1\n"),
+    ("L4", "class Box:\n    @property\n    @staticmethod\n    def high():\n        return 1\n"),
+    ("L5", "class Box:\n    def __hash__(self):\n        return 1\n"),
+    ("L5", "class Box:\n    def __add__(self, other, more=1):\n        return 1\n"),
+    ("L5", "class Box:\n    def __getitem__(self, at):\n        return 1\n"),
+    ("L5", "class Box:\n    rows = len('a')\n"),
+    ("L5", "class Box:\n    @classmethod\n    def low(cls):\n        return super().low()\n"),
+    ("L5", "class Box:\n    def low(self):\n        return super().__len__()\n"),
+    ("L5", "class Box:\n    def low(self):\n        return super(Box, self).low()\n"),
+    ("L18", "class Box:\n    def low(self):\n        self.low = 1\n"),
+    ("L18", "class Box:\n    def low(self):\n        return 1\n\n\nclass Case(Box):\n    def __init__(self):\n        self.low = 1\n"),
+    ("L18", "class Box:\n    def low(self):\n        return 1\n\n    def low(self):\n        return 2\n"),
+    ("L26", "class Box:\n    def decode(self):\n        return 1\n"),
+    ("L26", "class Box:\n    def __init__(self):\n        self.items = []\n"),
+    ("L28", "class Box:\n    def __eq__(self, other):\n        return self.n == other.n\n"),
+    ("L28", "class Box:\n    def __len__(self):\n        return 1 + len(self.rows)\n"),
+    ("L28", "class Box:\n    def __init__(self):\n        return None\n"),
     ("L6", "def low(name):\n    global COUNT\n    return name\n"),
     ("L6", "def low(rows):\n    with rows as row:\n        return row\n"),
     ("L7", "def low(k):\n    return k / 2\n"),
@@ -66,10 +84,49 @@ FORBIDDEN = (
     ("L23", "def low(rows):\n    for k in list(range(3)) + rows:\n        rows[k] = 1\n"),
     ("L25", "def low(text):\n    return text.encode()\n"),
     ("L27", "def low(text):\n    return text + '%'\n"),
+    ("L27", "def low(text):\n    return f'{text!r}'\n"),
+    ("L27", "def low(text):\n    return f'{text:5}'\n"),
+    ("L27", "def low(text):\n    return f'{text + \"a\"}'\n"),
     ("L27", "def low(text):\n    return text + '\\t'\n"),
     ("L27", "def low(k, n):\n    return k ** n\n"),
     ("L27", "def low(k):\n    return 1if k else 0\n"),
 )
+
+# Rows in an operator, or in what it calls, that change what was not created there, and some that may stand.
+CHANGES = (
+    "self.rows.append(1)", "rows = self.rows\n        rows.append(1)", "self.n = 1", "self.rows[0] = 1", "del self.rows[0]",
+    "n = 0\n        n -= 1", "n = 0\n        n += self.n", "other()", "changed(self.rows)", "rows = []\n        rows = self.rows\n        rows.pop()",
+    "for row in self.rows:\n            row.append(1)", "box = self.box\n        box.n = 1", "changed_through(self.rows)", "other.change()",
+)
+NO_CHANGES = (
+    "rows = [1]\n        rows.append(1)", "rows = list(self.rows)\n        rows[0] = 1", "n = 0\n        n += 1", "box = Box()\n        box.n = 1",
+    "seen = set()\n        seen.add(1)", "other.stay()",
+)
+BOX = """
+class Box:
+    def __init__(self):
+        self.n = 0
+        self.box = None
+        self.rows = []
+
+    def __add__(self, other):
+        {}
+        return 1
+
+    def change(self):
+        self.n = 1
+
+    def stay(self):
+        return self.n
+
+
+def changed(rows):
+    rows.append(1)
+
+
+def changed_through(rows):
+    changed(rows)
+"""
 
 
 def files_of_the_package():
@@ -99,6 +156,19 @@ class LanguageTest(unittest.TestCase):
         self.assertEqual(circles(files_of_the_package()), [])
         self.assertEqual(circles({"a": "from bothreaders.b import x\n", "b": "from bothreaders.c import x\n",
                                   "c": "from bothreaders.b import y\n"}), ["b", "c"])
+
+    def test_all_files_together(self):
+        self.assertEqual(package_faults(files_of_the_package()), [])
+
+    def test_what_an_operator_changes(self):
+        for row in CHANGES:
+            with self.subTest(row=row):
+                self.assertTrue(package_faults({"box": BOX.format(row)}))
+        for row in NO_CHANGES:
+            with self.subTest(row=row):
+                self.assertEqual(package_faults({"box": BOX.format(row)}), [])
+        for row in ("Box().nothing", "Box().nothing()"):
+            self.assertTrue(package_faults({"box": BOX.format("pass") + f"\n\ndef low():\n    return {row}\n"}))
 
     def test_the_check_sees_what_is_forbidden(self):
         modules = files_of_the_package()
