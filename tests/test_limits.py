@@ -11,7 +11,8 @@ from bothreaders.formats import is_file, is_format, stand_behind, stands
 from bothreaders.readers import is_content, looked_at, read, refusal, write
 from bothreaders.washing import dressed, dressed_as, hanging, steady, washed
 
-MOMENT = 2.0
+# Far above what each test takes, so that a slow or busy computer is no fault.
+MOMENT = 10.0
 
 HEAD = tuple(None if k % 3 == 0 else 255 - k for k in range(20))
 USES = ("keep", "check", "skip", "end", "stop")
